@@ -1,0 +1,1 @@
+"""Labels of functions, and what a planner may do by them."""
