@@ -9,11 +9,11 @@ class Runner:
     there are few unlike runs.
     """
 
-    def __init__(self, book, tick, view=None):
+    def __init__(self, book, tick, view=None, steady=None):
         self._book = book
         self._tick = tick % 3
         self._view = view
-        self._steady = None if view is None else Runner(book, 0)
+        self._steady = steady
         self._places = {cell.name: place for place, cell in enumerate(book.all_cells())}
         self._kept = {}
 
@@ -52,7 +52,7 @@ class Runner:
             return self._call(term[1], tuple(given), present)
         one = self._value(term[1], arguments, present)
         other = self._value(term[2], arguments, present)
-        return _joined(word, one, other)
+        return joined(word, one, other)
 
     def _call(self, name, given, present):
         if self._view is not None and self._book[name].label.is_steady():
@@ -62,7 +62,28 @@ class Runner:
         return value
 
 
-def _joined(word, one, other):
+class Calling:
+    """Calls by labels in all statements that begin on one state.
+
+    What is kept of runs is so for all of these statements, so they may share it.
+    """
+
+    def __init__(self, book, view):
+        self._view = view
+        self._steady = Runner(book, 0)
+        self._changing = [Runner(book, tick, view, self._steady) for tick in range(3)]
+
+    def steady(self, name, arguments):
+        """The value of a call of a steady function."""
+        return self._steady.run(name, arguments, self._view)[0]
+
+    def changing(self, name, arguments, state, tick):
+        """The tuple (value, state behind) of a call of a changing function."""
+        return self._changing[tick % 3].run(name, arguments, state)
+
+
+def joined(word, one, other):
+    """The value of a sum, or of a comparison, of two values."""
     if word == "plus":
         return (one + other) % 3
     if word == "less":

@@ -2,7 +2,7 @@
 
 from steadycalls.cells import are_values, check_state, is_value, is_whole
 from steadycalls.errors import BadArguments, BadPart, BadTick
-from steadycalls.runner import Runner
+from steadycalls.runner import Calling, Runner
 
 
 def run_alone(book, name, arguments, state, *, tick=0):
@@ -39,6 +39,7 @@ class World:
         self._book = book
         self._state = values_in(book, state)
         self._view = self._state
+        self._calling = Calling(book, self._view)
         self._calls = []
 
     def __len__(self):
@@ -50,9 +51,8 @@ class World:
         _check_arguments(function, arguments)
         given = tuple(arguments)
         if function.label.is_steady():
-            return Runner(self._book, 0).run(name, given, self._view)[0]
-        runner = Runner(self._book, self.tick(), self._view)
-        value, self._state = runner.run(name, given, self._state)
+            return self._calling.steady(name, given)
+        value, self._state = self._calling.changing(name, given, self._state, self.tick())
         self._calls.append((name, given, value))
         return value
 
@@ -75,6 +75,7 @@ class World:
     def begin(self):
         """Begin the next statement."""
         self._view = self._state
+        self._calling = Calling(self._book, self._view)
         self._calls = []
 
     def put(self, name, value):
@@ -90,6 +91,7 @@ class World:
         """A World that goes on by itself from here."""
         twin = World(self._book, self.state())
         twin._view = self._view
+        twin._calling = self._calling
         twin._calls = list(self._calls)
         return twin
 

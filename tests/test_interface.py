@@ -14,6 +14,18 @@ FUNCTIONS = {
                 "depends(book, name)", "writing(book, name)", "parting(book, name, kind)"],
     "truest": ["truest(book, name)", "truest_book(book)", "is_right(book, name)", "wrong_names(book)",
                "bars(book, name, label)", "is_bar(book, name, label, value)"],
+    "statements": ["is_call(value)", "is_tree(value)", "is_table(value)", "is_constant(call)", "values_of(call, row)",
+                   "passes(tree, told)"],
+    "plans": ["marks_for(book, statement, index)", "least_label(mark, kept)", "is_sound(plan)", "orders_of(statement)"],
+    "plays": ["folded(plan, state)", "play(plan, state, table, *, folds=None)", "sights(plan, state, table)"],
+    "oracles": ["is_token(value)", "token_of(plan, index, values)"],
+    "alike": ["difference(one, other)", "are_alike(one, other)", "is_difference(one, other, value)", "alike_orders(plan)",
+              "phases_free(plan)"],
+    "judges": ["paper_of(one, other)", "lets_paper(one, other, value)"],
+    "shown": ["shown_by(one, other, value)", "moved(plan, book)"],
+    "wrappers": ["is_wrapper(book, name)", "put_in(book, statement, index)", "is_kept(book, statement, index)"],
+    "lies": ["honest(book)", "is_lie(book, statement, table, state)", "lie(book, statement, *, rows=2)",
+             "least_corrections(book, statement, *, rows=2)"],
 }
 
 CLASSES = {
@@ -31,6 +43,22 @@ CLASSES = {
     "runs": {"World": [
         "__init__(self, book, state)", "call(self, name, arguments)", "state(self)", "view(self)", "tick(self)",
         "calls(self)", "begin(self)", "put(self, name, value)", "assign(self, name, value)", "copy(self)", "__len__",
+    ]},
+    "statements": {"Statement": [
+        "__init__(self, condition, outputs=())", "__eq__", "all_calls(self)", "atoms(self)", "__len__", "parts(self)",
+        "columns(self)", "fit(self, book)", "with_output(self, call, shown)",
+    ]},
+    "plans": {"Plan": [
+        "__init__(self, book, statement, *, orders=None, phases='rows', marks=None, kept=False)", "__eq__",
+        "changed(self, part, value)", "marked(self, index, mark)", "plain(self)", "is_plain(self)", "label_of(self, index)",
+        "folded_calls(self)",
+    ]},
+    "oracles": {"Oracle": [
+        "__init__(self, values)", "__getitem__", "__contains__", "__len__", "__eq__", "judge(self, plan, table)",
+    ]},
+    "kepts": {"Kept": [
+        "__init__(self, plan, state)", "planned(self)", "folds(self)", "__eq__", "stale(self, state)", "is_good(self, state)",
+        "is_good_with(self, function, state)", "watched(self)", "played(self, state, table)",
     ]},
 }
 
@@ -60,5 +88,9 @@ class TestInterface(unittest.TestCase):
     def test_generators(self):
         from steadycalls.cells import states_of
         from steadycalls.depends import cases
+        from steadycalls.plans import orders_of
+        from steadycalls.plays import sights
+        self.assertTrue(inspect.isgeneratorfunction(orders_of))
+        self.assertTrue(inspect.isgeneratorfunction(sights))
         self.assertTrue(inspect.isgeneratorfunction(states_of))
         self.assertTrue(inspect.isgeneratorfunction(cases))

@@ -184,6 +184,24 @@ class TestCode(unittest.TestCase):
                     if node.func.attr == "__init__":
                         self.assertIsInstance(node.func.value, ast.Name, path)
 
+    def test_names_of_classes_methods_and_attributes(self):
+        methods, attributes, generators, called = set(), set(), set(), []
+        for path in PATHS:
+            for node in nodes(path):
+                if isinstance(node, ast.ClassDef):
+                    self.assertTrue(node.name[0].isalpha(), (path, node.name))
+                    methods |= {one.name for one in node.body if isinstance(one, ast.FunctionDef)}
+                if isinstance(node, ast.Attribute) and isinstance(node.ctx, ast.Store):
+                    attributes.add(node.attr)
+                if isinstance(node, ast.FunctionDef):
+                    called.append(node.name)
+                    if any(isinstance(one, (ast.Yield, ast.YieldFrom)) for one in ast.walk(node)):
+                        generators.add(node.name)
+        self.assertEqual(methods & attributes, set())
+        self.assertEqual(attributes & METHODS, {"index"})
+        self.assertEqual([name for name in sorted(called) if name in generators], sorted(generators))
+        self.assertEqual(generators & (attributes | METHODS), set())
+
     def test_strings(self):
         for path in PATHS:
             for node in nodes(path):
