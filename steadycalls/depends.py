@@ -74,9 +74,13 @@ class Study:
         self._rows = all_arguments(book[name].arguments)
         self._cases = list(cases(book, name))
         self._runners = runners
+        self._has_writes = any([len(book[reached].writes) > 0 for reached in book.reaches(name)])
 
     def first_writing(self):
         """None, or the first tuple (arguments, case) in which the function writes."""
+        # What has no writes by its text need not be run to tell that.
+        if not self._has_writes:
+            return None
         for arguments in self._rows:
             for state, tick in self._cases:
                 ahead = tuple(state.values())
@@ -86,7 +90,15 @@ class Study:
 
     def first_parting(self, kind):
         """None, or the first tuple (arguments, case, case) that parts values by a kind."""
-        kept = [self._kept_in(state, tick, kind) for state, tick in self._cases]
+        return self._first_pair([cell.name for cell in self._cells if cell.kind == kind], kind == "tick")
+
+    def goes_by(self, name):
+        """Whether two cases that are alike but for one cell part values, whatever kind it has."""
+        return self._first_pair([name], False) is not None
+
+    def _first_pair(self, free, is_tick_free):
+        """None, or the first tuple (arguments, case, case) that parts values by some cells, or the tick."""
+        kept = [self._kept_in(state, 0 if is_tick_free else tick, free) for state, tick in self._cases]
         for arguments in self._rows:
             pair = self._pair(arguments, kept)
             if pair is not None:
@@ -94,10 +106,10 @@ class Study:
                 return (arguments, self._case(one), self._case(other))
         return None
 
-    def _kept_in(self, state, tick, kind):
-        """What two cases must have in common to be alike but for a kind."""
-        values = [state[cell.name] for cell in self._cells if cell.kind != kind]
-        return (tuple(values), 0 if kind == "tick" else tick)
+    def _kept_in(self, state, tick, free):
+        """What two cases must have in common to be alike but for some cells."""
+        values = [state[cell.name] for cell in self._cells if cell.name not in free]
+        return (tuple(values), tick)
 
     def _pair(self, arguments, kept):
         """None, or the indexes of two cases with the same kept and unlike values."""

@@ -1,6 +1,7 @@
 """Where wrong labels show."""
 
 from steadycalls.cells import is_whole, states_of
+from steadycalls.choices import choices, has_part
 from steadycalls.errors import BadPart, TooMany
 from steadycalls.plans import Plan
 from steadycalls.plays import play, played_in
@@ -50,8 +51,8 @@ def least_corrections(book, statement, *, rows=2):
     wrong = [name for name in labels if name in pairs.reached and not labels[name].is_steady()]
     found = []
     for many in range(len(wrong) + 1):
-        for names in _choices(wrong, many):
-            if not any([_is_part(part, names) for part in found]):
+        for names in choices(wrong, many):
+            if not has_part(names, found):
                 corrected = book.labelled({name: labels[name] for name in names})
                 if pairs.first_unlike(Looks(pairs, corrected), looks) is None:
                     found.append(names)
@@ -61,18 +62,6 @@ def least_corrections(book, statement, *, rows=2):
 def _check_rows(rows):
     if not is_whole(rows) or not 0 <= rows <= MOST_LOOKED_ROWS:
         raise BadPart("rows")
-
-
-def _choices(names, many):
-    """The list of the tuples of so many of some names, by their places."""
-    rows = [()]
-    for _ in range(many):
-        rows = [row + (at,) for row in rows for at in range(len(names)) if len(row) == 0 or row[-1] < at]
-    return [tuple([names[at] for at in row]) for row in rows]
-
-
-def _is_part(part, names):
-    return all([name in names for name in part])
 
 
 class Pairs:
@@ -88,6 +77,10 @@ class Pairs:
         self._states = [{**still, **state} for state in states_of(moving)]
         self._tables = [table for many in range(rows + 1) for table in tables_of(statement, many)]
 
+    def how_many(self):
+        """The number of all pairs."""
+        return len(self._tables) * len(self._states)
+
     def pair(self, number):
         """The tuple (table, state) with a number."""
         table = self._tables[number // len(self._states)]
@@ -95,7 +88,7 @@ class Pairs:
 
     def first_unlike(self, one, other):
         """None, or the number of the first pair that is not the same in two Looks."""
-        many = len(self._tables) * len(self._states)
+        many = self.how_many()
         number = 0
         while number < many and one.steadiness != other.steadiness:
             if number == MOST_PAIRS:

@@ -109,6 +109,9 @@ class TestCode(unittest.TestCase):
             for node in nodes(path):
                 self.assertNotIsInstance(node, ast.Import, path)
                 if isinstance(node, ast.ImportFrom):
+                    if node.module == "math":
+                        self.assertEqual([(alias.name, alias.asname) for alias in node.names], [("gcd", None)], path)
+                        continue
                     package, _, module = node.module.partition(".")
                     self.assertEqual((package, node.level), ("steadycalls", 0), path)
                     needs[path.stem].add(module)
