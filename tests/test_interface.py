@@ -26,6 +26,18 @@ FUNCTIONS = {
     "wrappers": ["is_wrapper(book, name)", "put_in(book, statement, index)", "is_kept(book, statement, index)"],
     "lies": ["honest(book)", "is_lie(book, statement, table, state)", "lie(book, statement, *, rows=2)",
              "least_corrections(book, statement, *, rows=2)"],
+    "indexes": ["index_bar(book, name)"],
+    "costs": ["cost_of(plan, rows, values)", "begin_cost(plan)", "dearer(one, other)", "is_never_dearer(one, other)", "with_memos(plan)"],
+    "means": ["is_chance(value)", "mean_cost(book, statement, orders, chances)", "passing(statement, chances)",
+              "least_orders(book, statement, chances)"],
+    "raising": ["moves_of(book, name)", "can_move(book, moves)", "with_moves(book, moves)", "raising(book, name, label)"],
+    "toldruns": ["counts_of(plan, state, table)", "told_run(plan, state, table)", "goes_with(plan, runs)",
+                 "plans_for(book, statement, runs)", "marks_told(book, statement, runs)", "parting_run(one, other)", "parting_runs(plans)"],
+    "likebooks": ["call_at(book, name, arguments, moment)", "unlike_call(one, other)", "are_alike_books(one, other)",
+                  "is_unlike_call(one, other, value)"],
+    "islands": ["islands(book)", "part_of(book, names)", "joined(one, other)", "one_island(book)"],
+    "texts": ["write_term(term)", "write_book(book)", "write_statement(statement)", "write_plan(plan)", "read_term(text, arguments)",
+              "read_book(text)", "read_statement(text)", "read_plan(book, statement, text)"],
 }
 
 CLASSES = {
@@ -60,6 +72,15 @@ CLASSES = {
         "__init__(self, plan, state)", "planned(self)", "folds(self)", "__eq__", "stale(self, state)", "is_good(self, state)",
         "is_good_with(self, function, state)", "watched(self)", "played(self, state, table)",
     ]},
+    "indexes": {"Index": [
+        "__init__(self, book, name, state)", "__getitem__", "__len__", "__eq__", "entries(self)", "find(self, value)",
+        "wrong(self, state)", "rewrite(self, arguments, state)",
+    ]},
+    "sessions": {"Session": [
+        "__init__(self, book)", "current(self)", "put(self, function)", "drop(self, name)", "relabel(self, name, label)", "raise_all(self)",
+        "change_cell(self, name, kind)", "__len__", "undo(self)", "attempt(self, visitor)", "trial(self)", "rebook(self, book)",
+    ]},
+    "console": {"Console": ["__init__(self, book)", "answer(self, line)"]},
 }
 
 
