@@ -1,7 +1,7 @@
 """Islands of books: functions that have nothing to do with others; and books that are joined."""
 
 from steadycalls.books import Book
-from steadycalls.errors import BadPart, UnknownName
+from steadycalls.errors import BadPart
 
 
 def islands(book):
@@ -43,9 +43,6 @@ def part_of(book, names):
     """The Book with some functions, those that they reach, and the cells that these touch."""
     if not isinstance(names, (list, tuple)) or len(names) == 0:
         raise BadPart("names")
-    for name in names:
-        if name not in book:
-            raise UnknownName(name)
     reached = {one: True for name in names for one in book.reaches(name)}
     touched = {cell: True for name in names for cell in book.touched(name)}
     cells = [cell for cell in book.all_cells() if cell.name in touched]

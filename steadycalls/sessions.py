@@ -1,7 +1,7 @@
 """Sessions: a book, and what was changed in it."""
 
 from steadycalls.books import Book
-from steadycalls.cells import KINDS, Cell
+from steadycalls.cells import Cell
 from steadycalls.errors import BadFunction, BadPart, NothingToUndo, UnknownName
 from steadycalls.functions import Function
 from steadycalls.truest import truest_book
@@ -54,8 +54,6 @@ class Session:
         """Give a cell another kind."""
         book = self.current()
         changed = book.cell(name).name
-        if not isinstance(kind, str) or kind not in KINDS:
-            raise BadPart("kind")
         cells = [Cell(changed, kind) if cell.name == changed else cell for cell in book.all_cells()]
         self._go_on(Book(cells, _functions(book)))
 

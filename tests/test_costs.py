@@ -282,6 +282,27 @@ class TestDearer(unittest.TestCase):
             results = [0, 2, 4, 6, 8, 10, 12] if phases == "rows" else range(7)
             self.assertEqual(values, {("steady", "al", ()): 2, **{("result", at): 1 for at in results}})
 
+    def test_several_results_in_a_row(self):
+        either = ("or", (("is", ST, 1), ("is", AL, 1)))
+        tree = ("and", (("is", CH, 1), ("is", ("ch", (1,)), 2), ("not", ("is", CH, 1)), either))
+        for phases in ["rows", "filters"]:
+            one = plan_of(tree, [(CH, False), (SE_ONE, False)], phases=phases)
+            other = one.changed("orders", [(0, 1, 2, 3), (1, 0)])
+            rows, values = self.check(one, other)
+            self.assertEqual([values[("result", at)] == told for at, told in enumerate([1, 2, 1])], [True, True, False])
+            self.assertEqual((len(rows), set(values)), (1, {("result", 0), ("result", 1), ("result", 2), ("steady", "st", (0, 0)), ("steady", "al", ())}))
+
+    def test_several_results_in_several_rows(self):
+        either = ("or", (("is", ST, 1), ("is", AL, 1)))
+        tree = ("and", (("is", CH, 1), ("is", ("ch", (1,)), 2), ("not", ("is", CH, 1)), either))
+        hidden = [(CH, False), (("st", (0, 0)), False), (("st", (1, 1)), False)]
+        for phases, results in [("rows", [0, 1, 2, 4, 5, 6, 8, 9, 10]), ("filters", range(9))]:
+            one = plan_of(tree, hidden, phases=phases, marks=["each"] * 6 + ["gone", "gone"])
+            other = plan_of(tree, hidden, phases=phases, marks=["each"] * 6 + ["begin", "begin"], orders=[(0, 1, 2, 3), (1, 0)])
+            rows, values = self.check(one, other)
+            self.assertEqual((len(rows), sorted(token[1] for token in values if token[0] == "result")), (3, list(results)))
+            self.assertTrue(all(values[("result", at)] == [1, 2][place % 3] for place, at in enumerate(results) if place % 3 < 2))
+
     def test_eight_calls(self):
         calls = [("st", ("x", value)) for value in ["y", 0, 1, 2]] + [("se", (value,)) for value in ["x", "y", 0, 1]]
         plan = plan_of(("or", tuple(("is", call, 1) for call in calls)))

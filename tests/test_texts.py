@@ -86,7 +86,10 @@ class TestTerms(unittest.TestCase):
             deep = ("less", 0, deep)
         self.assertEqual(read_term(write_term(deep), 0), deep)
         self.assertEqual(refused(self, BadText, lambda: read_term("less 0 " + write_term(deep), 0)).index, 0)
-        self.assertEqual(refused(self, BadText, lambda: read_term("if " * 5000 + "0", 0)).index, 0)
+        for words in ["if ", "plus ", "call f 1 ", "call f 2 "]:
+            self.assertEqual(refused(self, BadText, lambda: read_term(words * 5000 + "0", 0)).index, 0)
+        for words in ["not ", "and 1 ", "or 8 "]:
+            self.assertEqual(refused(self, BadText, lambda: read_statement("filter " + words * 5000 + "is f 0 0")).index, 0)
         leaves = ["0", "1", "if 0 1 2", "if 2 1 0", "if 1 1 1", "less 0 1", "plus 1 2", "same 1 1"]
         self.assertEqual(len(balanced(leaves).split(" ")), 30)
         self.assertEqual(write_term(read_term(balanced(leaves), 0)), balanced(leaves))

@@ -218,6 +218,12 @@ class TestParting(unittest.TestCase):
         self.assertIsNone(self.check(one.marked(1, "gone").marked(0, "fold"), one.marked(1, "gone").marked(0, "fold").changed("phases", "filters")))
         self.assertIsNone(self.check(plan_of(None, [(RATE, False)], marks=["gone"]), plan_of(None, [(RATE, False)], marks=["fold"])))
 
+    def test_no_rows(self):
+        # Just on the table without rows, and there is no other state.
+        one = plan_of(None, [(("two", ()), True)], Book([], [Function("two", 0, 2, label="always")]), marks=["memo"])
+        self.assertEqual(self.check(one, one.marked(0, "begin")), ({}, [], {"two": 0}))
+        self.assertEqual(self.check(one.marked(0, "begin"), one), ({}, [], {"two": 1}))
+
     def test_phases_of_changing_calls(self):
         one = plan_of(("is", UP, 1), [(TOP, True), (UP, False)])
         told = self.check(one, one.changed("phases", "filters"))
