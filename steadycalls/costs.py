@@ -92,7 +92,7 @@ def dearer(one, other):
         if found is not None:
             more, values = found
             rows = table * (lead // more + 1)
-            return (rows, {**_repeated(one, rows, values), **_repeated(other, rows, values)})
+            return (rows, _repeated((one, other), rows, values))
     return None
 
 
@@ -161,11 +161,14 @@ class RowCost:
         return None
 
 
-def _repeated(plan, rows, values):
-    """The dict from all tokens that `is` ask for on equal rows to values, each row as the first one."""
-    echo = Echo(plan, rows, values)
-    gone_through(plan, len(rows), echo)
-    return echo.told
+def _repeated(plans, rows, values):
+    """The dict from all tokens that `is` of some plans ask for on equal rows to values, each row as the first one."""
+    told = {}
+    for plan in plans:
+        echo = Echo(plan, rows, values)
+        for token in echo.told:
+            told[token] = echo.told[token]
+    return told
 
 
 class Echo:
@@ -178,6 +181,7 @@ class Echo:
         self._changing = 0
         self._in_row = [0] * len(rows)
         self.told = {}
+        gone_through(plan, len(rows), self)
 
     def value_of(self, index, at):
         """The value of a call of the filter, as in the first row."""
