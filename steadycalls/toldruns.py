@@ -157,7 +157,8 @@ def _check_fresh(one, value):
 
 
 def _parting_runs(one, others):
-    left = [plan for plan in others if plan != one]
+    """The list of told runs of a plan by which all others are parted from it that can be."""
+    left = list(others)
     if len(left) == 0:
         return []
     pairs = Pairs(one.book, one.statement, MOST_ROWS_PARTING)

@@ -318,6 +318,8 @@ class TestGreat(unittest.TestCase):
         plan = self.plan("abcdef", "y")
         twin = plan.changed("phases", "filters")
         self.assertEqual(refused(self, TooMany, lambda: parting_run(plan, twin)).limit, 20000)
+        self.assertEqual(refused(self, TooMany, lambda: parting_run(plan, plan)).limit, 20000)
+        self.assertEqual(parting_runs([plan]), [])
         self.assertEqual(refused(self, TooMany, lambda: parting_runs([plan, twin])).limit, 20000)
         self.assertEqual(refused(self, BadPlan, lambda: parting_runs([plan, twin, None])).plan, None)
 
